@@ -1,0 +1,1 @@
+"""Gapweave: rows of signs laid beside one another with gaps."""
