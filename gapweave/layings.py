@@ -7,11 +7,15 @@ MANNERS = ("whole", "within", "over", "stretch")
 STEPS = {"p": (1, 1), "a": (1, 0), "b": (0, 1)}
 
 
-def check_rows(prices, rows):
+def check_known(known, rows):
     for number, row in enumerate(rows):
         for place, sign in enumerate(row):
-            if sign not in prices.signs:
+            if sign not in known:
                 raise NoSign(number, place)
+
+
+def check_rows(prices, rows):
+    check_known(prices.signs, rows)
 
 
 def check_manner(manner):
@@ -21,7 +25,7 @@ def check_manner(manner):
 
 def check_place(first, second, place):
     if not (0 <= place[0] <= len(first) and 0 <= place[1] <= len(second)):
-        raise NoLaying(f"{place!r} is no place of the rows")
+        raise NoLaying("it goes before or beyond the rows")
 
 
 def place_behind(place, move):

@@ -73,6 +73,8 @@ class Prices:
         # Kept, since layings ask for them at every move.
         self.unit = common_unit(self.pairs, self.opening, self.more)
         self.costs = costs_by_signs(self.signs, self.pairs, self.unit)
+        self.opening_units = by_unit(self.opening, self.unit)
+        self.more_units = by_unit(self.more, self.unit)
 
 
 def unit_of(prices):
@@ -84,11 +86,11 @@ def pair_cost(prices, one, other):
 
 
 def opening_cost(prices):
-    return by_unit(prices.opening, prices.unit)
+    return prices.opening_units
 
 
 def more_cost(prices):
-    return by_unit(prices.more, prices.unit)
+    return prices.more_units
 
 
 def in_units(prices, number):

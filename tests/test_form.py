@@ -29,6 +29,17 @@ NO_WORDS = re.compile(
     r"|NamedTuple|TypedDict|TYPE_CHECKING|abstractmethod)\b|dataclass|overload|contextmanager")
 NO_NAMES = set("register mro elements open input version_info with_traceback add_note format format_map".split())
 
+KEYWORDS = {
+    "sorted": ("key", "reverse"), "min": ("key", "default"), "max": ("key", "default"), "sum": ("start",),
+    "enumerate": ("start",), "zip": ("strict",)}
+WALKERS = ("list", "tuple", "dict", "sorted", "sum", "any", "all", "enumerate", "zip", "join")
+
+
+def is_call(node, names):
+    if not isinstance(node, ast.Call):
+        return False
+    return (node.func.id if isinstance(node.func, ast.Name) else getattr(node.func, "attr", None)) in names
+
 
 def is_docstring(statement):
     return isinstance(statement, ast.Expr) and isinstance(statement.value, ast.Constant)
@@ -151,6 +162,60 @@ class Form(unittest.TestCase):
                 if isinstance(operator, (ast.Is, ast.IsNot)):
                     self.assertIsInstance(other, ast.Constant, where)
                     self.assertIn(other.value, (None, True, False), where)
+
+    def test_l19_errors(self):
+        for where, node in self.nodes(ast.ExceptHandler):
+            self.assertIsInstance(node.type, ast.Name, where)
+            self.assertNotIn(node.type.id, ("Exception", "TypeError"), where)
+        for where, node in self.nodes(ast.Raise):
+            self.assertIsInstance(node.exc, ast.Call, where)
+
+    def test_l21_annotations(self):
+        for where, node in self.nodes(ast.FunctionDef):
+            self.assertIsNone(node.returns, where)
+        for where, node in self.nodes(ast.arg):
+            self.assertIsNone(node.annotation, where)
+
+    def test_l22_keywords_and_values(self):
+        for where, node in self.nodes(ast.Call):
+            own = node.func.id if isinstance(node.func, ast.Name) else None
+            for keyword in node.keywords:
+                self.assertIn(keyword.arg, KEYWORDS.get(own, ()), where)
+        for where, tree in self.nodes(ast.Module):
+            handed = {id(node.func) for node in ast.walk(tree) if isinstance(node, ast.Call)}
+            bases = {id(base) for node in ast.walk(tree) if isinstance(node, ast.ClassDef) for base in node.bases}
+            kinds = {id(node.args[1]) for node in ast.walk(tree) if is_call(node, ("isinstance",))}
+            for node in ast.walk(tree):
+                if isinstance(node, ast.Name) and node.id in OWN_NAMES:
+                    self.assertIn(id(node), handed | bases | kinds, f"{where} {node.id}")
+
+    def test_l23_walked_at_once(self):
+        for where, tree in self.nodes(ast.Module):
+            walked = set()
+            for node in ast.walk(tree):
+                if isinstance(node, (ast.For, ast.comprehension)):
+                    walked.add(id(node.iter))
+                if is_call(node, WALKERS) and node.args:
+                    walked.add(id(node.args[0]))
+                if is_call(node, ("zip",)):
+                    walked.update(id(part) for part in node.args)
+                if is_call(node, ("min", "max")) and len(node.args) == 1:
+                    walked.add(id(node.args[0]))
+            for node in ast.walk(tree):
+                if is_call(node, ("zip", "enumerate", "reversed", "range", "items", "keys", "values")):
+                    self.assertIn(id(node), walked, f"{where}:{node.lineno}")
+
+    def test_l24_sets(self):
+        for where, tree in self.nodes(ast.Module):
+            asked = set()
+            for node in ast.walk(tree):
+                if is_call(node, ("sorted", "len")) and not node.keywords:
+                    asked.update(id(part) for part in ast.walk(node.args[0]))
+                if isinstance(node, ast.Compare):
+                    asked.update(id(part) for part in node.comparators + [node.left])
+            for node in ast.walk(tree):
+                if isinstance(node, ast.Set) or is_call(node, ("set", "frozenset")):
+                    self.assertIn(id(node), asked, f"{where}:{node.lineno}")
 
     def test_l25_methods(self):
         own = {node.name for _, node in self.nodes(ast.FunctionDef)}
