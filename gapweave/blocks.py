@@ -1,8 +1,8 @@
 """Blocks of many rows with gaps: their rows, their columns and what they cost."""
 
 from gapweave.errors import NoBlock, NoRow
-from gapweave.layings import check_known
-from gapweave.prices import in_units, is_sign, more_cost, pair_cost
+from gapweave.layings import STEPS, check_known, place_behind
+from gapweave.prices import are_signs, in_units, more_cost, pair_cost
 
 GAP = "-"
 
@@ -20,8 +20,25 @@ def columns_of(rows):
     return turned(rows, len(rows[0]))
 
 
+# One behind the other, as the moves tell; a row's text serves as the columns of that row alone.
+def laid_columns(ones, others, one_gaps, other_gaps, moves):
+    columns = []
+    place = (0, 0)
+    for move in moves:
+        step = STEPS[move]
+        left = ones[place[0]] if step[0] == 1 else one_gaps
+        right = others[place[1]] if step[1] == 1 else other_gaps
+        columns.append(left + right)
+        place = place_behind(place, move)
+    return columns
+
+
 def is_gaps(column):
     return column == GAP * len(column)
+
+
+def signs_of(things):
+    return things.replace(GAP, "")
 
 
 def check_lengths(rows):
@@ -32,11 +49,14 @@ def check_lengths(rows):
             raise NoBlock("the rows have not all one length")
 
 
+def are_things(row):
+    return are_signs(signs_of(row))
+
+
 def check_things(rows):
     for row in rows:
-        for thing in row:
-            if thing != GAP and not is_sign(thing):
-                raise NoBlock(f"{thing!r} is neither a sign nor a gap")
+        if not are_things(row):
+            raise NoBlock("a thing is neither a sign nor a gap")
 
 
 def check_columns(rows):
@@ -60,18 +80,22 @@ def check_row(block, row):
 
 def bare(block, row):
     check_row(block, row)
-    return block.rows[row].replace(GAP, "")
+    return signs_of(block.rows[row])
 
 
 def alone(text):
     return Block([text])
 
 
+def other_rows(block, row):
+    return block.rows[:row] + block.rows[row + 1:]
+
+
 def without(block, row):
     check_row(block, row)
     if len(block.rows) == 1:
         raise NoRow("there is no other row")
-    others = block.rows[:row] + block.rows[row + 1:]
+    others = other_rows(block, row)
     columns = [column for column in columns_of(others) if not is_gaps(column)]
     return Block(turned(columns, len(others)))
 

@@ -9,10 +9,6 @@ def greatest_divisor(one, other):
     return abs(one)
 
 
-def least_multiple(one, other):
-    return one // greatest_divisor(one, other) * other
-
-
 def lowest(fraction):
     divisor = greatest_divisor(fraction[0], fraction[1])
     return (fraction[0] // divisor, fraction[1] // divisor)

@@ -1,126 +1,139 @@
 """Blocks joined: the cheapest joining of two, a paper that none costs less, and rows laid along a tree.
 
-Rests are what the moves that are still to come add to the cost at the least, by the columns of both blocks that lie
-behind.
+An extra is what two columns cost beside one another beyond what both cost alone. Rests are what the extras of the moves
+that are still to come add up to at the least, by the columns of both blocks that lie behind.
 """
 
-from gapweave.blocks import GAP, Block, alone, block_units, check_block_rows, columns_of, thing_cost, turned
+from gapweave.blocks import (
+    GAP, Block, alone, block_units, check_block_rows, columns_of, laid_columns, signs_of, turned)
 from gapweave.errors import NoTree
-from gapweave.layings import STEPS, check_rows
+from gapweave.kinds import is_pair, is_whole
+from gapweave.layings import check_rows, place_behind
+from gapweave.prices import more_cost, pair_cost
 
 
-def costs_against(prices, column):
-    costs = {}
-    for thing in prices.signs + GAP:
-        costs[thing] = sum([thing_cost(prices, one, thing) for one in column])
-    return costs
+# Gaps beside gaps cost nought, so only the column's signs count.
+def cost_by_gaps(prices, column, many):
+    return len(signs_of(column)) * many * more_cost(prices)
 
 
-def cost_beside(costs, column):
-    return sum([costs[thing] for thing in column])
+def costs_by_gaps(prices, columns, many):
+    return [cost_by_gaps(prices, column, many) for column in columns]
 
 
-# Only what moves add is kept, since what both blocks cost alone is the same whatever the moves are.
-class Adding:
+# A sign costs beside a gap what it costs alone, so only signs beside signs make an extra.
+def sign_extras(prices, signs):
+    extras = {}
+    for other in prices.signs:
+        extras[other] = sum([pair_cost(prices, one, other) - 2 * more_cost(prices) for one in signs])
+    return extras
+
+
+def extras_beside(prices, signs, others):
+    extras = sign_extras(prices, signs)
+    return [sum([extras[sign] for sign in other]) for other in others]
+
+
+def all_extras(prices, ones, others):
+    # By their signs, since columns with the same ones are in plenty where there are few rows.
+    known = {}
+    for signs in ones:
+        if signs not in known:
+            known[signs] = extras_beside(prices, signs, others)
+    return [known[signs] for signs in ones]
+
+
+def rests_ahead(extras, below):
+    rests = [0]
+    for j in range(len(extras) - 1, -1, -1):
+        least = min(below[j], rests[-1])
+        # Columns that cost more beside one another than alone are better laid alone, so no sum is needed there.
+        if extras[j] <= 0:
+            least = min(extras[j] + below[j + 1], least)
+        rests.append(least)
+    rests.reverse()
+    return rests
+
+
+def join_rests(extras, many):
+    rests = [[0] * (many + 1)]
+    for row in reversed(extras):
+        rests.append(rests_ahead(row, rests[-1]))
+    rests.reverse()
+    return rests
+
+
+class Joining:
     def __init__(self, prices, one, other):
+        check_block_rows(prices, one.rows + other.rows)
         self.ones = columns_of(one.rows)
         self.others = columns_of(other.rows)
         self.one_gaps = GAP * len(one.rows)
         self.other_gaps = GAP * len(other.rows)
-        # By column, since like columns are in plenty where there are few rows.
-        self.by_p = {}
-        self.by_a = {}
-        for column in self.ones:
-            if column not in self.by_a:
-                costs = costs_against(prices, column)
-                self.by_p[column] = [cost_beside(costs, beside) for beside in self.others]
-                self.by_a[column] = cost_beside(costs, self.other_gaps)
-        gap_costs = costs_against(prices, self.one_gaps)
-        self.by_b = [cost_beside(gap_costs, column) for column in self.others]
+        self.by_a = costs_by_gaps(prices, self.ones, len(other.rows))
+        self.by_b = costs_by_gaps(prices, self.others, len(one.rows))
+        ones = [signs_of(column) for column in self.ones]
+        others = [signs_of(column) for column in self.others]
+        self.extras = all_extras(prices, ones, others)
+        self.rests = join_rests(self.extras, len(self.others))
 
 
-def last_rests(by_b):
-    rests = [0]
-    for cost in reversed(by_b):
-        rests.append(cost + rests[-1])
-    rests.reverse()
-    return rests
+# What the joining adds to what both blocks cost alone.
+def least_added(joining):
+    return sum(joining.by_a) + sum(joining.by_b) + joining.rests[0][0]
 
 
-def rests_ahead(by_p, by_a, by_b, below):
-    rests = [by_a + below[-1]]
-    for j in range(len(by_b) - 1, -1, -1):
-        rests.append(min(by_p[j] + below[j + 1], by_a + below[j], by_b[j] + rests[-1]))
-    rests.reverse()
-    return rests
-
-
-def join_rests(adding):
-    rests = [last_rests(adding.by_b)]
-    for column in reversed(adding.ones):
-        rests.append(rests_ahead(adding.by_p[column], adding.by_a[column], adding.by_b, rests[-1]))
-    rests.reverse()
-    return rests
-
-
-def first_move(adding, rests, i, j):
-    if i == len(adding.ones):
+def first_move(joining, i, j):
+    if i == len(joining.ones):
         return "b"
-    column = adding.ones[i]
-    if j < len(adding.others) and adding.by_p[column][j] + rests[i + 1][j + 1] == rests[i][j]:
+    rest = joining.rests[i][j]
+    below = joining.rests[i + 1]
+    if j < len(joining.others) and joining.extras[i][j] + below[j + 1] == rest:
         return "p"
-    if adding.by_a[column] + rests[i + 1][j] == rests[i][j]:
-        return "a"
-    return "b"
+    return "a" if below[j] == rest else "b"
 
 
-def column_by(adding, move, i, j):
-    step = STEPS[move]
-    left = adding.ones[i] if step[0] == 1 else adding.one_gaps
-    right = adding.others[j] if step[1] == 1 else adding.other_gaps
-    return left + right
+def first_moves(joining):
+    place = (0, 0)
+    moves = []
+    while place != (len(joining.ones), len(joining.others)):
+        move = first_move(joining, place[0], place[1])
+        moves.append(move)
+        place = place_behind(place, move)
+    return moves
 
 
-def joined_columns(adding, rests):
-    columns = []
-    i = 0
-    j = 0
-    while i < len(adding.ones) or j < len(adding.others):
-        move = first_move(adding, rests, i, j)
-        columns.append(column_by(adding, move, i, j))
-        i = i + STEPS[move][0]
-        j = j + STEPS[move][1]
-    return columns
-
-
-def checked_adding(prices, one, other):
-    check_block_rows(prices, one.rows + other.rows)
-    return Adding(prices, one, other)
+def joined_block(joining):
+    moves = first_moves(joining)
+    columns = laid_columns(joining.ones, joining.others, joining.one_gaps, joining.other_gaps, moves)
+    return Block(turned(columns, len(joining.one_gaps + joining.other_gaps)))
 
 
 def joined(prices, one, other):
-    adding = checked_adding(prices, one, other)
-    columns = joined_columns(adding, join_rests(adding))
-    return Block(turned(columns, len(one.rows) + len(other.rows)))
+    return joined_block(Joining(prices, one, other))
 
 
-def less_each(number, row):
-    return [number - less for less in row]
+def sums_behind(costs):
+    sums = [0]
+    for cost in costs:
+        sums.append(sums[-1] + cost)
+    return sums
 
 
 def join_paper(prices, one, other):
-    rests = join_rests(checked_adding(prices, one, other))
-    cost = block_units(prices, one) + block_units(prices, other) + rests[0][0]
-    # A move lessens the rest by at most what it adds, so what is left of the cost grows by at most as much.
-    return [less_each(cost, row) for row in rests]
-
-
-def is_pair(part):
-    return isinstance(part, tuple) and len(part) == 2
+    joining = Joining(prices, one, other)
+    own = block_units(prices, one) + block_units(prices, other)
+    by_b = sums_behind(joining.by_b)
+    paper = []
+    for by_a, rests in zip(sums_behind(joining.by_a), joining.rests):
+        # A move lessens the rest by at most its extra, so the number grows by at most what the move adds.
+        number = own + by_a + joining.rests[0][0]
+        paper.append([number + cost - rest for cost, rest in zip(by_b, rests)])
+    return paper
 
 
 def check_number(part, many, seen):
-    if isinstance(part, bool) or not isinstance(part, int):
+    if not is_whole(part):
         # No refusal here shows the part, since it may be too deep or too long for that.
         raise NoTree("a part is neither a number nor a pair")
     if not 0 <= part < many:

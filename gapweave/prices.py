@@ -1,7 +1,7 @@
 """Prices: what signs cost beside one another and alone, as fractions and in units."""
 
 from gapweave.errors import NoPrices
-from gapweave.fractions import least_multiple, lowest
+from gapweave.fractions import greatest_divisor, lowest
 
 FIRST_SIGN = 32
 LAST_SIGN = 126
@@ -14,12 +14,15 @@ def is_sign(sign):
     return FIRST_SIGN <= number <= LAST_SIGN and number not in NO_SIGNS
 
 
+def are_signs(text):
+    return all([is_sign(sign) for sign in text])
+
+
 def check_signs(signs):
     if len(signs) == 0:
         raise NoPrices("there is no sign")
-    for sign in signs:
-        if not is_sign(sign):
-            raise NoPrices(f"{sign!r} is no sign")
+    if not are_signs(signs):
+        raise NoPrices("a sign is none")
     if len(set(signs)) != len(signs):
         raise NoPrices("a sign comes twice")
 
@@ -42,12 +45,30 @@ def lowest_prices(row):
     return tuple([lowest_price(price) for price in row])
 
 
-def common_unit(pairs, opening, more):
-    unit = least_multiple(opening[1], more[1])
+def all_unders(pairs, opening, more):
+    unders = [opening[1], more[1]]
     for row in pairs:
-        for price in row:
-            unit = least_multiple(unit, price[1])
-    return unit
+        unders.extend([price[1] for price in row])
+    return unders
+
+
+# The unit as numbers above 1 that multiply to it: for each under what those ahead of it don't yet hold.
+def unit_factors(unders):
+    factors = []
+    unit = 1
+    for under in unders:
+        factor = under // greatest_divisor(unit, under)
+        if factor > 1:
+            factors.append(factor)
+            unit = unit * factor
+    return factors
+
+
+def product_of(factors):
+    product = 1
+    for factor in factors:
+        product = product * factor
+    return product
 
 
 def by_unit(price, unit):
@@ -71,7 +92,8 @@ class Prices:
         self.opening = lowest_price(opening)
         self.more = lowest_price(more)
         # Kept, since layings ask for them at every move.
-        self.unit = common_unit(self.pairs, self.opening, self.more)
+        self.factors = unit_factors(all_unders(self.pairs, self.opening, self.more))
+        self.unit = product_of(self.factors)
         self.costs = costs_by_signs(self.signs, self.pairs, self.unit)
         self.opening_units = by_unit(self.opening, self.unit)
         self.more_units = by_unit(self.more, self.unit)
@@ -94,7 +116,14 @@ def more_cost(prices):
 
 
 def in_units(prices, number):
-    return lowest((number, prices.unit))
+    over = number
+    under = 1
+    # Factor by factor, since the divisor with the whole unit takes long where that has thousands of figures.
+    for factor in prices.factors:
+        divisor = greatest_divisor(over, factor)
+        over = over // divisor
+        under = under * (factor // divisor)
+    return (over, under)
 
 
 def same_both_ways(prices):

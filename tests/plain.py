@@ -2,6 +2,7 @@
 
 import inspect
 import itertools
+import math
 import random
 import sys
 from fractions import Fraction
@@ -211,3 +212,45 @@ def some_block(source, signs, many, columns):
         if set(column) != {"-"}:
             found.append(column)
     return ["".join(column[row] for column in found) for row in range(many)]
+
+
+def both_ways(prices):
+    """The prices made the same both ways."""
+    many = range(len(prices.signs))
+    pairs = [[prices.pairs[min(i, j)][max(i, j)] for j in many] for i in many]
+    return Prices(prices.signs, pairs, prices.opening, prices.more)
+
+
+def sixty_figures(source, signs):
+    """Prices that can be read of a text, at the bounds: sixty figures over and under the line."""
+    def price():
+        over, under = source.randint(10 ** 59, 10 ** 60 - 1), source.randint(10 ** 59, 10 ** 60 - 1)
+        while math.gcd(over, under) != 1:
+            under -= 1
+        return (source.choice((-1, 1)) * over, under)
+    return Prices(signs, [[price() for _ in signs] for _ in signs], price(), price())
+
+
+def plain_without(rows, row):
+    """The other rows, without the columns that have gaps alone then."""
+    others = [text for number, text in enumerate(rows) if number != row]
+    columns = [column for column in zip(*others) if set(column) != {"-"}]
+    return ["".join(column[number] for column in columns) for number in range(len(others))]
+
+
+def laid_anew_by_listing(prices, rows, row):
+    laid = joined_by_listing(prices, [rows[row].replace("-", "")], plain_without(rows, row))
+    return laid[1:row + 1] + laid[:1] + laid[row + 1:]
+
+
+def number_of(text):
+    """A number of however many figures, read figure by figure, since Python reads only some thousand at once."""
+    value = 0
+    for figure in text.lstrip("-"):
+        value = value * 10 + "0123456789".index(figure)
+    return -value if text.startswith("-") else value
+
+
+def fraction_of(text):
+    over, _, under = text.partition("/")
+    return (number_of(over), number_of(under or "1"))

@@ -41,6 +41,21 @@ def is_call(node, names):
     return (node.func.id if isinstance(node.func, ast.Name) else getattr(node.func, "attr", None)) in names
 
 
+def top_names(tree):
+    """The names that a file defines at its top, each as often as it does."""
+    names = []
+    for node in tree.body:
+        if isinstance(node, (ast.FunctionDef, ast.ClassDef)):
+            names.append(node.name)
+        if isinstance(node, ast.Assign):
+            names.append(node.targets[0].id)
+    return names
+
+
+def parents_of(tree):
+    return {child: node for node in ast.walk(tree) for child in ast.iter_child_nodes(node)}
+
+
 def is_docstring(statement):
     return isinstance(statement, ast.Expr) and isinstance(statement.value, ast.Constant)
 
@@ -65,6 +80,62 @@ class Form(unittest.TestCase):
             self.assertEqual(node.col_offset, 0, where)
             for alias in node.names:
                 self.assertNotEqual(alias.name, "*", where)
+
+    def test_l15_l16_names_once_and_from_the_file_that_defines_them(self):
+        trees = {"gapweave." + path.stem: ast.parse(path.read_text()) for path in FILES}
+        draws = {}
+        for module, tree in trees.items():
+            names = top_names(tree)
+            drawn = [node for node in tree.body if isinstance(node, ast.ImportFrom)]
+            names.extend(alias.asname or alias.name for node in drawn for alias in node.names)
+            self.assertEqual(sorted(names), sorted(set(names)), module)
+            for node in drawn:
+                for alias in node.names:
+                    self.assertIn(alias.name, top_names(trees[node.module]), f"{module}: {alias.name}")
+            draws[module] = {node.module for node in drawn}
+        # Files that draw from none that is left are taken away, until none is left.
+        while draws:
+            free = [module for module, others in draws.items() if not others & set(draws)]
+            self.assertTrue(free, f"these draw from one another: {sorted(draws)}")
+            for module in free:
+                draws.pop(module)
+
+    def test_l15_lists_and_dicts_at_the_top_are_only_read(self):
+        kept = set()
+        for where, node in self.nodes(ast.Assign):
+            if node.col_offset == 0 and isinstance(node.value, (ast.List, ast.Dict)):
+                kept.add(node.targets[0].id)
+                within = [part for part in ast.walk(node.value) if isinstance(part, (ast.List, ast.Dict))]
+                self.assertEqual(within, [node.value], where)
+        for where, tree in self.nodes(ast.Module):
+            parents = parents_of(tree)
+            for node in ast.walk(tree):
+                if isinstance(node, ast.Name) and node.id in kept and isinstance(node.ctx, ast.Load):
+                    parent = parents[node]
+                    self.assertIsInstance(parent, (ast.Subscript, ast.Compare, ast.For, ast.comprehension), where)
+                    self.assertIsInstance(getattr(parent, "ctx", ast.Load()), ast.Load, where)
+
+    def test_l6_l27_texts_and_powers(self):
+        for where, node in self.nodes((ast.FunctionDef, ast.ClassDef)):
+            self.assertFalse(is_docstring(node.body[0]), where)
+        for where, node in self.nodes(ast.BinOp):
+            if isinstance(node.op, ast.Pow):
+                self.assertIsInstance(node.right, ast.Constant, where)
+                self.assertIn(node.right.value, range(65), where)
+        for path in FILES:
+            for escape in re.findall(r"\\(.)", path.read_text()):
+                self.assertIn(escape, "nt\\'\"", path.name)
+
+    def test_l18_l26_values_of_objects(self):
+        own = {name for kind in (str, int, list, dict, set, bytes) for name in dir(kind)}
+        free = "count index title find get join lower upper split strip copy add".split()
+        methods = {part.name for _, node in self.nodes(ast.ClassDef) for part in node.body
+                   if isinstance(part, ast.FunctionDef)}
+        for where, node in self.nodes(ast.Attribute):
+            if isinstance(node.ctx, ast.Store):
+                self.assertIsInstance(node.value, ast.Name, where)
+                self.assertTrue(node.attr in free or node.attr not in own, where)
+                self.assertNotIn(node.attr, methods, where)
 
     def test_l3_top_of_a_module(self):
         for path in FILES:
